@@ -1,0 +1,1 @@
+"""Marblefall: boards of turning wheels down which marbles fall."""

@@ -1,0 +1,92 @@
+"""[3] nothing handed in is changed, the same answer again, arguments by place or by name."""
+
+import copy
+import inspect
+import itertools
+import unittest
+
+from marblefall import boards, moments
+from marblefall.errors import MarbleError
+from tests.things import MIXED, TURNS, WRONG
+
+NOW = ((1, 0, 0), (2, 1, 0), (0, 3, 0))
+
+# Of each function the names of its arguments, in their order, and arguments with their answer.
+CALLS = {
+    boards.is_board: (("thing",), (TURNS,), True),
+    boards.is_stand: (("board", "thing"), (TURNS, (1, 1, 2)), True),
+    boards.is_moment: (("board", "thing"), (TURNS, NOW), True),
+    moments.handled: (("board", "moment", "wheel"), (TURNS, NOW, 0), ((0, 0, 0), (1, 1, 1), (0, 3, 0))),
+    moments.rests: (("board", "moment"), (TURNS, NOW), False),
+    moments.is_let: (("board", "moment", "row"), (TURNS, NOW, (0, 2, 2)), False),
+    moments.first_wrong: (("board", "moment", "row"), (TURNS, NOW, (0, 2, 2)), 2),
+    moments.behind: (("board", "moment", "row"), (TURNS, NOW, (0, 2)), ((0, 0, 1), (1, 1, 0), (0, 4, 0))),
+    moments.counts_of: (("board", "row"), (TURNS, (0, 2, 2)), (1, 0, 2)),
+}
+
+
+def answer(ask, *arguments):
+    """What is told, or the class of the error by which it is refused."""
+    try:
+        return ask(*arguments)
+    except MarbleError as error:
+        return type(error)
+
+
+class CallTest(unittest.TestCase):
+    def test_names_of_arguments(self):
+        for ask, (names, arguments, told) in CALLS.items():
+            parameters = inspect.signature(ask).parameters.values()
+            self.assertEqual(tuple(one.name for one in parameters), names)
+            for one in parameters:
+                self.assertEqual((one.kind, one.default), (one.POSITIONAL_OR_KEYWORD, one.empty))
+
+    def test_by_place(self):
+        for ask, (names, arguments, told) in CALLS.items():
+            self.assertEqual(ask(*arguments), told)
+
+    def test_by_name_in_each_order(self):
+        for ask, (names, arguments, told) in CALLS.items():
+            for pairs in itertools.permutations(zip(names, arguments)):
+                self.assertEqual(ask(**dict(pairs)), told)
+
+    def test_some_by_place_and_some_by_name(self):
+        for ask, (names, arguments, told) in CALLS.items():
+            for cut in range(len(names) + 1):
+                named = dict(reversed(list(zip(names[cut:], arguments[cut:]))))
+                self.assertEqual(ask(*arguments[:cut], **named), told)
+
+    def test_the_same_again_and_nothing_changed(self):
+        for ask, (names, arguments, told) in CALLS.items():
+            before = copy.deepcopy(arguments)
+            for again in range(3):
+                self.assertEqual(ask(*arguments), told)
+                self.assertEqual(arguments, before)
+
+    def test_asked_with_others_between(self):
+        for again in range(2):
+            for ask, (names, arguments, told) in CALLS.items():
+                self.assertEqual(ask(*arguments), told)
+
+    def test_wrong_things_are_not_changed(self):
+        lists = ([[[[0]]], 1], [[0, 0, 0], [1, 1, 1], [0, 0]], [0, 1], {"row": [0]}, ([0], {1: [2]}))
+        for wrong in WRONG + lists:
+            before = copy.deepcopy(wrong)
+            for ask, (names, arguments, told) in CALLS.items():
+                for place in range(len(names)):
+                    handed = arguments[:place] + (wrong,) + arguments[place + 1:]
+                    self.assertEqual(answer(ask, *handed), answer(ask, *handed))
+                    self.assertEqual(repr(wrong), repr(before))
+
+    def test_a_refusal_changes_nothing(self):
+        now = ((3, 1, 0), (2, 1, 0), (5, 5))
+        for again in range(2):
+            with self.assertRaises(MarbleError):
+                moments.behind(MIXED, now, (0, 0, 2, 2, 2, 2, 2))
+            with self.assertRaises(MarbleError):
+                moments.handled(MIXED, now, 2)
+            self.assertEqual(now, ((3, 1, 0), (2, 1, 0), (5, 5)))
+
+
+if __name__ == "__main__":
+    unittest.main()

@@ -1,0 +1,124 @@
+"""[4] what is refused, by which class, and which refusal is due first; [2] what is no whole number."""
+
+import itertools
+import unittest
+
+from marblefall.boards import is_moment, is_stand
+from marblefall.errors import MarbleError, NoBoard, NoMoment, NoRow, NotNow, NoWheel
+from marblefall.moments import behind, counts_of, first_wrong, handled, is_let, rests
+from tests.things import MIXED, WRONG, moment
+
+NOW = ((3, 1, 0), (2, 1, 0), (5, 5))
+
+BAD_BOARDS = WRONG + (0, (), list(MIXED), (list(MIXED[0]), 2), MIXED[0], (MIXED[0], True), (MIXED[0], 5))
+BAD_MOMENTS = WRONG + (
+    0, (), MIXED, list(NOW), (NOW[0], list(NOW[1]), NOW[2]), ((4, 0, 0), (2, 1, 0), (5, 5)),
+    ((3, 1, 0), (2, True, 0), (5, 5)), ((3, 1, 0), (2, 1, -1), (5, 5)), ((3, 1, 0), (2, 1, 0), (5, False)),
+)
+BAD_WHEELS = WRONG + (3, 4, (), (0,), [1], "1", {1: 1})
+BAD_ROWS = WRONG + (
+    0, (0, 3), (3, 0), (0, -1), (0, True), (False,), (0, None), (0, "1"), (0, (1,)), (0, [1]), [], [0, 0],
+    {0: 1}, "01", ((0, 1),),
+)
+NOT_LET = ((2,), (1, 1), (1, 2), (0, 2, 0), (0, 0, 2, 2))
+
+# Of each function its refusals in the interface's order: the argument, the class, what brings it about;
+# last, an argument for each that is right.
+REFUSALS = {
+    is_stand: ([("board", NoBoard, BAD_BOARDS)], {"board": MIXED, "thing": (0, 0, 0)}),
+    is_moment: ([("board", NoBoard, BAD_BOARDS)], {"board": MIXED, "thing": NOW}),
+    handled: (
+        [("board", NoBoard, BAD_BOARDS), ("moment", NoMoment, BAD_MOMENTS), ("wheel", NoWheel, BAD_WHEELS),
+         ("wheel", NotNow, (2,))],
+        {"board": MIXED, "moment": NOW, "wheel": 0},
+    ),
+    rests: (
+        [("board", NoBoard, BAD_BOARDS), ("moment", NoMoment, BAD_MOMENTS)],
+        {"board": MIXED, "moment": NOW},
+    ),
+    is_let: (
+        [("board", NoBoard, BAD_BOARDS), ("moment", NoMoment, BAD_MOMENTS), ("row", NoRow, BAD_ROWS)],
+        {"board": MIXED, "moment": NOW, "row": (0, 1)},
+    ),
+    first_wrong: (
+        [("board", NoBoard, BAD_BOARDS), ("moment", NoMoment, BAD_MOMENTS), ("row", NoRow, BAD_ROWS)],
+        {"board": MIXED, "moment": NOW, "row": (0, 1)},
+    ),
+    behind: (
+        [("board", NoBoard, BAD_BOARDS), ("moment", NoMoment, BAD_MOMENTS), ("row", NoRow, BAD_ROWS + NOT_LET)],
+        {"board": MIXED, "moment": NOW, "row": (0, 1)},
+    ),
+    counts_of: (
+        [("board", NoBoard, BAD_BOARDS), ("row", NoRow, BAD_ROWS)],
+        {"board": MIXED, "row": (0, 1)},
+    ),
+}
+
+
+def refusal(ask, arguments):
+    """The class of the error by which it is refused, None if it isn't."""
+    try:
+        ask(**arguments)
+    except MarbleError as error:
+        return type(error)
+    return None
+
+
+class RefusalTest(unittest.TestCase):
+    def test_what_is_right_is_not_refused(self):
+        for ask, (refusals, right) in REFUSALS.items():
+            self.assertIsNone(refusal(ask, right), ask)
+
+    def test_each_refusal(self):
+        for ask, (refusals, right) in REFUSALS.items():
+            for name, kind, wrongs in refusals:
+                for wrong in wrongs:
+                    with self.subTest(ask=ask.__name__, name=name, wrong=repr(wrong)[:80]):
+                        self.assertIs(refusal(ask, {**right, name: wrong}), kind)
+
+    def test_of_several_the_first(self):
+        for ask, (refusals, right) in REFUSALS.items():
+            for first, second in itertools.combinations(refusals, 2):
+                if first[0] == second[0]:
+                    continue
+                for wrong, other in itertools.product(first[2], second[2]):
+                    arguments = {**right, first[0]: wrong, second[0]: other}
+                    self.assertIs(refusal(ask, arguments), first[1], (ask, wrong, other))
+
+    def test_all_at_once(self):
+        for ask, (refusals, right) in REFUSALS.items():
+            for wrong in WRONG:
+                self.assertIs(refusal(ask, {name: wrong for name in right}), NoBoard)
+
+    def test_a_moment_of_another_board(self):
+        one_wheel = ((((0,),),), 0)
+        self.assertRaises(NoMoment, handled, one_wheel, NOW, 0)
+        self.assertRaises(NoMoment, rests, MIXED, ((0,), (0,), ()))
+        self.assertRaises(NoMoment, behind, one_wheel, NOW, ())
+
+    def test_the_last_wheel_and_the_one_beyond(self):
+        for many in range(1, 7):
+            board = ((((),),) * many, 0)
+            start = moment(board, (1,) * many)
+            last = many - 1
+            self.assertEqual(handled(board, start, last)[1], (1,) * last + (0,))
+            self.assertEqual(behind(board, start, (last,))[1], (1,) * last + (0,))
+            self.assertEqual(counts_of(board, (last,)), (0,) * last + (1,))
+            for wrong in (many, many + 1, -1, -many):
+                self.assertRaises(NoWheel, handled, board, start, wrong)
+                for ask in (is_let, first_wrong, behind):
+                    self.assertRaises(NoRow, ask, board, start, (wrong,))
+                self.assertRaises(NoRow, counts_of, board, (wrong,))
+
+    def test_a_cup_is_no_wheel(self):
+        self.assertRaises(NoWheel, handled, MIXED, NOW, 3)
+        self.assertRaises(NoRow, counts_of, MIXED, (3,))
+
+    def test_a_wrong_number_behind_a_place_where_none_waits(self):
+        for ask in (is_let, first_wrong, behind):
+            self.assertRaises(NoRow, ask, MIXED, NOW, (2, True))
+            self.assertRaises(NoRow, ask, MIXED, NOW, (2, 7))
+
+
+if __name__ == "__main__":
+    unittest.main()
