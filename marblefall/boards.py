@@ -1,6 +1,6 @@
 """Boards, their stands and their moments: what is one, and the refusal of what is none."""
 
-from marblefall.errors import NoBoard, NoMoment, NoWheel
+from marblefall.errors import NoBoard, NoMoment, NoStand, NoWheel
 
 MOST_WHEELS = 6
 MOST_CUPS = 4
@@ -58,6 +58,12 @@ def is_stand(board, thing):
     if not has_parts(thing, len(wheels), len(wheels)):
         return False
     return all([is_within(step, 0, len(wheel) - 1) for step, wheel in zip(thing, wheels)])
+
+
+def need_stand(board, thing):
+    """Refuse what is no stand of the board."""
+    if not is_stand(board, thing):
+        raise NoStand()
 
 
 def are_marbles(thing, places):

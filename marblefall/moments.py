@@ -46,9 +46,14 @@ def rests(board, moment):
     return all([many == 0 for many in moment[1]])
 
 
+def is_row(board, thing):
+    """Whether it is a row of what is a board, of anything."""
+    return isinstance(thing, tuple) and all([is_wheel_number(board, wheel) for wheel in thing])
+
+
 def need_row(board, thing):
     """Refuse what is no row of what is a board."""
-    if not isinstance(thing, tuple) or not all([is_wheel_number(board, wheel) for wheel in thing]):
+    if not is_row(board, thing):
         raise NoRow()
 
 

@@ -5,7 +5,7 @@ import unittest
 from marblefall.boards import is_board, is_moment, is_stand
 from marblefall.errors import NoBoard
 from tests.things import (
-    BOARDS, EVER, LEAST, MIXED, MOST, WRONG, all_waiting, moment, number_paths, part_at, tuple_paths, with_part,
+    BOARDS, EVER, LEAST, MIXED, MOST, WRONG, Told, all_waiting, moment, number_paths, part_at, tuple_paths, with_part,
 )
 
 # What can't stand where a whole number from 0 to 9 is to stand.
@@ -15,16 +15,6 @@ NO_NUMBERS = (True, False, None, -1, -9999999999999, "0", "", (), (0,), [0], {},
 def one_step(ends, cups=0, wheels=1):
     """A board of so many wheels, each with one step of these ends."""
     return (((ends,),) * wheels, cups)
-
-
-class Told(unittest.TestCase):
-    """The answer is to be True or False itself, not only like it."""
-
-    def yes(self, answer, why=""):
-        self.assertIs(answer, True, why)
-
-    def no(self, answer, why=""):
-        self.assertIs(answer, False, why)
 
 
 class BoardTest(Told):

@@ -5,9 +5,9 @@ import inspect
 import itertools
 import unittest
 
-from marblefall import boards, moments
+from marblefall import boards, drains, moments, rest, shares, stands
 from marblefall.errors import MarbleError
-from tests.things import MIXED, TURNS, WRONG
+from tests.things import ANYTHING, EVER, HALVES, MIXED, TURNS, WALK
 
 NOW = ((1, 0, 0), (2, 1, 0), (0, 3, 0))
 
@@ -22,6 +22,28 @@ CALLS = {
     moments.first_wrong: (("board", "moment", "row"), (TURNS, NOW, (0, 2, 2)), 2),
     moments.behind: (("board", "moment", "row"), (TURNS, NOW, (0, 2)), ((0, 0, 1), (1, 1, 0), (0, 4, 0))),
     moments.counts_of: (("board", "row"), (TURNS, (0, 2, 2)), (1, 0, 2)),
+    rest.end_of: (("board", "moment"), (TURNS, NOW), ("rests", (2, 2, 1), ((1, 0, 1), (0, 0, 0), (1, 5, 0)))),
+    rest.is_end: (
+        ("board", "moment", "thing"), (EVER, ((0, 0), (1, 0), (0,)), ("never", (0,), (1, 0, 1, 0))), True,
+    ),
+    rest.is_enough: (("board", "moment", "thing"), (TURNS, NOW, (2, 2, 1)), True),
+    # Which weights, turns and moment are told isn't promised, but that they are the same again.
+    drains.drain_of: (("board",), (WALK,), drains.drain_of(WALK)),
+    drains.is_drain: (("board", "thing"), (EVER, ("keeps", (2, 4))), True),
+    drains.never_moment: (("board",), (EVER,), drains.never_moment(EVER)),
+    stands.dropped: (("board", "stand", "drops"), (WALK, (1, 0, 0), (0, 1, 0)), ((1, 1, 1), (2, 3, 1), (1, 0))),
+    stands.is_again: (("board", "stand"), (WALK, (0, 1, 0)), False),
+    stands.all_again: (("board",), (WALK,), ((0, 0, 0), (1, 0, 0), (1, 1, 0), (1, 1, 1))),
+    stands.how_many: (("board",), (WALK,), 4),
+    stands.back: (("board", "stand", "wheel"), (WALK, (1, 1, 1), 1), (1, 0, 0)),
+    stands.round_of: (("board", "stand", "wheel"), (WALK, (0, 1, 0), 1), (1, 2)),
+    stands.led_far: (("board", "stand", "wheel", "many"), (HALVES, (1, 0, 0), 0, 9), ((0, 1, 0), (1,))),
+    stands.least_drops: (("board", "stand", "other"), (HALVES, (1, 0, 0), (0, 0, 0)), ("drops", (1, 1, 1))),
+    stands.shows_drops: (
+        ("board", "stand", "other", "thing"), (HALVES, (1, 0, 0), (0, 0, 0), ("drops", (1, 3, 0))), True,
+    ),
+    shares.shares: (("board",), (WALK,), (((3, 4), (1, 4)), ((1, 2), (1, 2)), ((1, 4), (3, 4)))),
+    shares.owed: (("board", "stand"), (WALK, (1, 0, 0)), ((-1, 4), (1, 4))),
 }
 
 
@@ -70,7 +92,7 @@ class CallTest(unittest.TestCase):
 
     def test_wrong_things_are_not_changed(self):
         lists = ([[[[0]]], 1], [[0, 0, 0], [1, 1, 1], [0, 0]], [0, 1], {"row": [0]}, ([0], {1: [2]}))
-        for wrong in WRONG + lists:
+        for wrong in ANYTHING + lists:
             before = copy.deepcopy(wrong)
             for ask, (names, arguments, told) in CALLS.items():
                 for place in range(len(names)):

@@ -4,9 +4,17 @@ import itertools
 import unittest
 
 from marblefall.boards import is_moment, is_stand
-from marblefall.errors import MarbleError, NoBoard, NoMoment, NoRow, NotNow, NoWheel
+from marblefall.drains import drain_of, is_drain, never_moment
+from marblefall.errors import (
+    MarbleError, NoAgain, NoBoard, NoDrain, NoDrops, NoMoment, NoNumber, NoRow, NoStand, NotNow, NoWheel, TooMany,
+)
 from marblefall.moments import behind, counts_of, first_wrong, handled, is_let, rests
-from tests.things import MIXED, WRONG, moment
+from marblefall.rest import end_of, is_end, is_enough
+from marblefall.shares import owed, shares
+from marblefall.stands import (
+    all_again, back, dropped, how_many, is_again, least_drops, led_far, round_of, shows_drops,
+)
+from tests.things import DRAINING, KEEPING, MIXED, STANDS_648, WALK, WRONG, moment
 
 NOW = ((3, 1, 0), (2, 1, 0), (5, 5))
 
@@ -21,6 +29,24 @@ BAD_ROWS = WRONG + (
     {0: 1}, "01", ((0, 1),),
 )
 NOT_LET = ((2,), (1, 1), (1, 2), (0, 2, 0), (0, 0, 2, 2))
+BAD_STANDS = WRONG + (
+    0, (), WALK, [0, 0, 0], (0, 0), (0, 0, 0, 0), (2, 0, 0), (0, 2, 0), (0, 0, 2), (0, -1, 0), (True, 0, 0),
+    (0, 0, False), (0, None, 0), (0, "0", 0), (0, (0,), 0), ((0, 0, 0),), "000",
+)
+BAD_DROPS = WRONG + (
+    0, (), [0, 0, 0], (0, 0), (0, 0, 0, 0), (21, 0, 0), (0, 0, 21), (0, -1, 0), (True, 0, 0), (0, 0, False),
+    (0, None, 0), (0, "0", 0), (0, (0,), 0), ((0, 0, 0),), "000",
+)
+BAD_NUMBERS = tuple(thing for thing in WRONG if thing != 6) + (10 ** 12 + 1, (), (0,), [5], "5", {5: 5})
+NOT_AGAIN = ((0, 0, 1), (0, 1, 0), (0, 1, 1), (1, 0, 1))
+# As many wheels and steps as WALK has, but it keeps.
+KEEPS = ((((1,), (1,)), ((0,), (2,)), ((1,), (1,))), 2)
+
+NO_BOARD = ("board", NoBoard, BAD_BOARDS)
+NO_MOMENT = ("moment", NoMoment, BAD_MOMENTS)
+NO_DRAIN = ("board", NoDrain, (KEEPS,))
+NO_STAND = ("stand", NoStand, BAD_STANDS)
+NO_WHEEL = ("wheel", NoWheel, BAD_WHEELS)
 
 # Of each function its refusals in the interface's order: the argument, the class, what brings it about;
 # last, an argument for each that is right.
@@ -51,6 +77,55 @@ REFUSALS = {
     counts_of: (
         [("board", NoBoard, BAD_BOARDS), ("row", NoRow, BAD_ROWS)],
         {"board": MIXED, "row": (0, 1)},
+    ),
+    end_of: ([NO_BOARD, NO_MOMENT], {"board": MIXED, "moment": NOW}),
+    is_end: ([NO_BOARD, NO_MOMENT], {"board": MIXED, "moment": NOW, "thing": None}),
+    is_enough: ([NO_BOARD, NO_MOMENT], {"board": MIXED, "moment": NOW, "thing": None}),
+    drain_of: ([NO_BOARD], {"board": MIXED}),
+    is_drain: ([NO_BOARD], {"board": MIXED, "thing": None}),
+    never_moment: ([NO_BOARD, ("board", NotNow, DRAINING)], {"board": MIXED}),
+    dropped: (
+        [NO_BOARD, NO_DRAIN, NO_STAND, ("drops", NoDrops, BAD_DROPS)],
+        {"board": WALK, "stand": (0, 1, 0), "drops": (20, 0, 1)},
+    ),
+    is_again: ([NO_BOARD, NO_DRAIN, NO_STAND], {"board": WALK, "stand": (0, 1, 0)}),
+    all_again: ([NO_BOARD, ("board", NoDrain, KEEPING), ("board", TooMany, (STANDS_648,))], {"board": WALK}),
+    how_many: ([NO_BOARD, ("board", NoDrain, KEEPING)], {"board": WALK}),
+    back: (
+        [NO_BOARD, NO_DRAIN, NO_STAND, NO_WHEEL, ("stand", NoAgain, NOT_AGAIN)],
+        {"board": WALK, "stand": (1, 1, 1), "wheel": 0},
+    ),
+    round_of: ([NO_BOARD, NO_DRAIN, NO_STAND, NO_WHEEL], {"board": WALK, "stand": (0, 1, 0), "wheel": 0}),
+    led_far: (
+        [NO_BOARD, NO_DRAIN, NO_STAND, NO_WHEEL, ("many", NoNumber, BAD_NUMBERS)],
+        {"board": WALK, "stand": (0, 1, 0), "wheel": 0, "many": 10 ** 12},
+    ),
+    least_drops: (
+        [NO_BOARD, NO_DRAIN, NO_STAND, ("other", NoStand, BAD_STANDS)],
+        {"board": WALK, "stand": (0, 1, 0), "other": (0, 0, 0)},
+    ),
+    shows_drops: (
+        [NO_BOARD, NO_DRAIN, NO_STAND, ("other", NoStand, BAD_STANDS)],
+        {"board": WALK, "stand": (0, 1, 0), "other": (0, 0, 0), "thing": None},
+    ),
+    shares: ([NO_BOARD, ("board", NoDrain, KEEPING)], {"board": WALK}),
+    owed: ([NO_BOARD, NO_DRAIN, NO_STAND], {"board": WALK, "stand": (0, 1, 0)}),
+}
+
+# The same for a board of more than 600 stands.
+MANY_BAD_STANDS = WRONG + ((0, 0, 0), (3, 0, 0, 0, 0, 0), (0,) * 5 + (2,), (0, 0, 0, True, 0, 0), [0] * 6)
+MANY_KEEPS = ((STANDS_648[0][:4] + (((4,),) * 4, STANDS_648[0][5])), 2)
+MANY = [NO_BOARD, ("board", NoDrain, (MANY_KEEPS,)), ("stand", NoStand, MANY_BAD_STANDS)]
+TOO_MANY = {
+    is_again: (MANY, {"board": STANDS_648, "stand": (0,) * 6}),
+    all_again: (MANY[:2], {"board": STANDS_648}),
+    back: (MANY + [("wheel", NoWheel, WRONG + (7, (), (0,)))], {"board": STANDS_648, "stand": (0,) * 6, "wheel": 5}),
+    least_drops: (
+        MANY + [("other", NoStand, MANY_BAD_STANDS)], {"board": STANDS_648, "stand": (0,) * 6, "other": (1,) * 6},
+    ),
+    shows_drops: (
+        MANY + [("other", NoStand, MANY_BAD_STANDS)],
+        {"board": STANDS_648, "stand": (0,) * 6, "other": (1,) * 6, "thing": ("drops", (0,) * 6)},
     ),
 }
 
@@ -89,6 +164,21 @@ class RefusalTest(unittest.TestCase):
         for ask, (refusals, right) in REFUSALS.items():
             for wrong in WRONG:
                 self.assertIs(refusal(ask, {name: wrong for name in right}), NoBoard)
+
+    def test_too_many_stands(self):
+        for ask, (refusals, right) in TOO_MANY.items():
+            with self.assertRaises(TooMany) as caught:
+                ask(**right)
+            self.assertEqual((caught.exception.many, caught.exception.most), (648, 600))
+            for name, kind, wrongs in refusals:
+                for wrong in wrongs:
+                    self.assertIs(refusal(ask, {**right, name: wrong}), kind, (ask, name, wrong))
+
+    def test_too_many_ahead_of_no_again(self):
+        # 729 stands, of which not all come again.
+        board = (tuple(((wheel - 1,) if wheel else (6,), (wheel + 1,), ()) for wheel in range(6)), 2)
+        for stand in itertools.product(range(3), repeat=6):
+            self.assertIs(refusal(back, {"board": board, "stand": stand, "wheel": 0}), TooMany)
 
     def test_a_moment_of_another_board(self):
         one_wheel = ((((0,),),), 0)
