@@ -19,11 +19,11 @@ def stands_in_all(board):
     return many
 
 
-def need_few_stands(board):
+def need_few_stands(board, most=MOST_STANDS):
     """Refuse a board of more stands than are gone through."""
     many = stands_in_all(board)
-    if many > MOST_STANDS:
-        raise TooMany(many, MOST_STANDS)
+    if many > most:
+        raise TooMany(many, most)
 
 
 def are_drops(board, thing, most):

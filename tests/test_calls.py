@@ -5,11 +5,12 @@ import inspect
 import itertools
 import unittest
 
-from marblefall import boards, drains, moments, rest, shares, stands
+from marblefall import boards, drains, faults, joins, moments, rest, shares, stands, tellers
 from marblefall.errors import MarbleError
 from tests.things import ANYTHING, EVER, HALVES, MIXED, TURNS, WALK
 
 NOW = ((1, 0, 0), (2, 1, 0), (0, 3, 0))
+TELLER = (WALK, (0, 1, 0), (0, 1))
 
 # Of each function the names of its arguments, in their order, and arguments with their answer.
 CALLS = {
@@ -44,6 +45,24 @@ CALLS = {
     ),
     shares.shares: (("board",), (WALK,), (((3, 4), (1, 4)), ((1, 2), (1, 2)), ((1, 4), (3, 4)))),
     shares.owed: (("board", "stand"), (WALK, (1, 0, 0)), ((-1, 4), (1, 4))),
+    joins.joined: (
+        ("one", "other", "links"), (HALVES, WALK, (1,)),
+        ((((), (1,)), ((), (2,)), ((), (4,)), ((6,), (4,)), ((3,), (5,)), ((4,), (7,))), 2),
+    ),
+    tellers.is_teller: (("thing",), (TELLER,), True),
+    tellers.told: (("teller", "word"), (TELLER, (1, 1, 0)), ((1, 0), (0, 1), (1, 0))),
+    tellers.parted: (("one", "other"), (TELLER, (WALK, (0, 0, 0), (0, 1))), ("apart", (0, 1))),
+    tellers.shows_parted: (
+        ("one", "other", "thing"), (TELLER, (WALK, (0, 0, 0), (0, 1)), ("apart", (1, 0))), True,
+    ),
+    faults.is_fault: (("teller", "thing"), (TELLER, ("off", 1, 0)), True),
+    faults.with_fault: (("teller", "fault"), (TELLER, ("off", 1, 0)), (WALK, (0, 0, 0), (0, 1))),
+    faults.all_faults: (("teller",), ((HALVES, (0, 0, 0), (0,)),), (
+        None, ("lame", 0, 1), ("lame", 1, 1), ("lame", 2, 1), ("blocked", 1), ("blocked", 2), ("blocked", 3),
+        ("off", 0, 1), ("off", 1, 1), ("off", 2, 1),
+    )),
+    faults.fitting: (("teller", "word", "seen"), (TELLER, (0, 1), ((0, 0), (0, 1))), (("lame", 0, 0), ("blocked", 3))),
+    faults.parting: (("teller", "one", "other"), (TELLER, None, ("off", 1, 0)), ("apart", (0, 1))),
 }
 
 

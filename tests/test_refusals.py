@@ -6,15 +6,19 @@ import unittest
 from marblefall.boards import is_moment, is_stand
 from marblefall.drains import drain_of, is_drain, never_moment
 from marblefall.errors import (
-    MarbleError, NoAgain, NoBoard, NoDrain, NoDrops, NoMoment, NoNumber, NoRow, NoStand, NotNow, NoWheel, TooMany,
+    MarbleError, NoAgain, NoBoard, NoDrain, NoDrops, NoFault, NoLinks, NoMoment, NoMouths, NoNumber, NoRow, NoSeen,
+    NoStand, NotAlike, NotNow, NoWheel, NoWord, TooMany,
 )
+from marblefall.faults import all_faults, fitting, is_fault, parting, with_fault
+from marblefall.joins import joined
 from marblefall.moments import behind, counts_of, first_wrong, handled, is_let, rests
 from marblefall.rest import end_of, is_end, is_enough
 from marblefall.shares import owed, shares
 from marblefall.stands import (
     all_again, back, dropped, how_many, is_again, least_drops, led_far, round_of, shows_drops,
 )
-from tests.things import DRAINING, KEEPING, MIXED, STANDS_648, WALK, WRONG, moment
+from marblefall.tellers import parted, shows_parted, told
+from tests.things import DRAINING, KEEPING, MIXED, STANDS_648, TURNS, WALK, WRONG, moment
 
 NOW = ((3, 1, 0), (2, 1, 0), (5, 5))
 
@@ -47,6 +51,41 @@ NO_MOMENT = ("moment", NoMoment, BAD_MOMENTS)
 NO_DRAIN = ("board", NoDrain, (KEEPS,))
 NO_STAND = ("stand", NoStand, BAD_STANDS)
 NO_WHEEL = ("wheel", NoWheel, BAD_WHEELS)
+
+BAD_LINKS = WRONG + (
+    (), [0, None, 2], (0, None), (0, None, 2, 0), (4, None, 0), (-1, None, 0), (True, None, 0), (None, None, False),
+    ((0,), None, 0), ("0", None, 0),
+)
+# Seven wheels; six, but five cups.
+MANY_WHEELS = ((((),),) * 4, 1)
+MANY_CUPS = ((((),),) * 3, 4)
+
+TELLER = (WALK, (0, 1, 0), (0, 2))
+BAD_MOUTHS = ((), (0,) * 4, (3,), (0, -1), (True,), (0, False), [0], (0, None), ([0],), ("0",), 0, None, "0", {0: 0})
+BAD_TELLERS = [
+    (NoBoard, WRONG + (TELLER[:2], TELLER + (0,), list(TELLER), WALK, (list(WALK), *TELLER[1:]), (0, *TELLER[1:]))),
+    (NoDrain, ((KEEPS, *TELLER[1:]),)),
+    (NoStand, tuple((WALK, stand, (0, 2)) for stand in ((2, 0, 0), (0, 0), [0, 0, 0], (True, 0, 0), None, 0, "000"))),
+    (NoMouths, tuple((WALK, (0, 1, 0), mouths) for mouths in BAD_MOUTHS)),
+]
+# As many mouths and cups, but 64 stands.
+MANY_TELLER = (((((), (), (), (3,)),) * 3, 2), (0, 1, 0), (0, 1))
+NOT_ALIKE = ((WALK, (0, 1, 0), (0,)), (WALK, (0, 1, 0), (0, 1, 2)), (TURNS, (0, 1, 0), (0, 2)))
+BAD_WORDS = tuple(thing for thing in WRONG if thing != ()) + ((2,), (0, -1), (0, True), [0], (0, None), ((0,),), 0, "0")
+BAD_SEEN = WRONG + (
+    (), ((0, 0),), ((0, 0),) * 3, [(0, 0), (0, 0)], ((0, 0), [0, 0]), ((0, 0), (0,)), ((0, 0), (0, -1)),
+    ((0, 0), (0, True)), ((0, 0), None),
+)
+BAD_FAULTS = tuple(thing for thing in WRONG if thing is not None) + (
+    (), ("lame",), ("lame", 0), ("lame", 0, 2), ("lame", 3, 0), ("lame", True, 0), ("blocked", 5), ("blocked", 0, 0),
+    ("off", 0, 0), ("off", 1, 1), ("off", 0, True), ["off", 0, 1], "off",
+)
+
+
+def of_teller(name):
+    """What is due of the teller that is handed in by the name."""
+    return [(name, kind, wrongs) for kind, wrongs in BAD_TELLERS]
+
 
 # Of each function its refusals in the interface's order: the argument, the class, what brings it about;
 # last, an argument for each that is right.
@@ -110,6 +149,31 @@ REFUSALS = {
     ),
     shares: ([NO_BOARD, ("board", NoDrain, KEEPING)], {"board": WALK}),
     owed: ([NO_BOARD, NO_DRAIN, NO_STAND], {"board": WALK, "stand": (0, 1, 0)}),
+    joined: (
+        [("one", NoBoard, BAD_BOARDS), ("other", NoBoard, BAD_BOARDS), ("links", NoLinks, BAD_LINKS),
+         ("other", TooMany, (MANY_WHEELS, MANY_CUPS))],
+        {"one": TURNS, "other": WALK, "links": (0, None, 2)},
+    ),
+    told: (of_teller("teller") + [("word", NoWord, BAD_WORDS)], {"teller": TELLER, "word": (0, 1)}),
+    parted: (
+        of_teller("one") + of_teller("other") + [("other", NotAlike, NOT_ALIKE), ("one", TooMany, (MANY_TELLER,))],
+        {"one": TELLER, "other": TELLER},
+    ),
+    shows_parted: (
+        of_teller("one") + of_teller("other") + [("one", NotAlike, NOT_ALIKE), ("other", TooMany, (MANY_TELLER,))],
+        {"one": TELLER, "other": TELLER, "thing": None},
+    ),
+    is_fault: (of_teller("teller"), {"teller": TELLER, "thing": None}),
+    with_fault: (of_teller("teller") + [("fault", NoFault, BAD_FAULTS)], {"teller": TELLER, "fault": ("off", 0, 1)}),
+    all_faults: (of_teller("teller"), {"teller": TELLER}),
+    fitting: (
+        of_teller("teller") + [("word", NoWord, BAD_WORDS), ("seen", NoSeen, BAD_SEEN)],
+        {"teller": TELLER, "word": (0, 1), "seen": ((0, 0), (0, 0))},
+    ),
+    parting: (
+        of_teller("teller") + [("one", NoFault, BAD_FAULTS), ("other", NoFault, BAD_FAULTS)],
+        {"teller": TELLER, "one": ("off", 0, 1), "other": None},
+    ),
 }
 
 # The same for a board of more than 600 stands.
@@ -179,6 +243,36 @@ class RefusalTest(unittest.TestCase):
         board = (tuple(((wheel - 1,) if wheel else (6,), (wheel + 1,), ()) for wheel in range(6)), 2)
         for stand in itertools.product(range(3), repeat=6):
             self.assertIs(refusal(back, {"board": board, "stand": stand, "wheel": 0}), TooMany)
+
+    def test_of_several_parts_of_a_teller_the_first(self):
+        parts = (
+            ((NoBoard, (None, 0, [], MIXED[0], list(WALK), True)), (NoDrain, (KEEPS,)), (None, (WALK,))),
+            ((NoStand, ((2, 0, 0), (0, 0), [0, 0, 0], (True, 0, 0), None, 0)), (None, ((0, 1, 0),))),
+            ((NoMouths, BAD_MOUTHS), (None, ((0, 2),))),
+        )
+        for due in itertools.product(*parts):
+            kinds = [kind for kind, things in due if kind is not None]
+            for teller in itertools.product(*(things for kind, things in due)):
+                self.assertIs(refusal(told, {"teller": teller, "word": ()}), kinds[0] if kinds else None, teller)
+                self.assertIs(refusal(all_faults, {"teller": teller}), kinds[0] if kinds else None, teller)
+                if kinds:
+                    self.assertIs(refusal(told, {"teller": teller, "word": None}), kinds[0], teller)
+                    self.assertIs(refusal(parted, {"one": teller, "other": None}), kinds[0], teller)
+                    self.assertIs(refusal(parted, {"one": TELLER, "other": teller}), kinds[0], teller)
+                    self.assertIs(refusal(with_fault, {"teller": teller, "fault": 0}), kinds[0], teller)
+
+    def test_too_many_behind_all_else(self):
+        for one, other, kind in (
+            (MANY_TELLER, MANY_TELLER, TooMany), (MANY_TELLER, NOT_ALIKE[0], NotAlike),
+            (NOT_ALIKE[0], MANY_TELLER, NotAlike), (MANY_TELLER, None, NoBoard), (None, MANY_TELLER, NoBoard),
+            (MANY_TELLER, (KEEPS, 0, 0), NoDrain),
+        ):
+            self.assertIs(refusal(parted, {"one": one, "other": other}), kind)
+            self.assertIs(refusal(shows_parted, {"one": one, "other": other, "thing": None}), kind)
+        for wrong in BAD_FAULTS:
+            self.assertIs(refusal(parting, {"teller": MANY_TELLER, "one": wrong, "other": None}), NoFault)
+            self.assertIs(refusal(parting, {"teller": MANY_TELLER, "one": None, "other": wrong}), NoFault)
+        self.assertIs(refusal(parting, {"teller": MANY_TELLER, "one": None, "other": None}), TooMany)
 
     def test_a_moment_of_another_board(self):
         one_wheel = ((((0,),),), 0)

@@ -255,6 +255,28 @@ def comes_again(board, stand):
     return all(stand in reached(board, other) for other in reached(board, stand))
 
 
+def some_teller(rng, board):
+    """A teller of the board, which drains, by chance."""
+    stand = tuple(rng.randrange(len(steps)) for steps in board[0])
+    return board, stand, tuple(rng.randrange(len(stand)) for mouth in range(rng.randint(1, 3)))
+
+
+def told_one_by_one(teller, word):
+    """For each drop of the word what each cup gets, handled marble by marble."""
+    board, stand, mouths = teller
+    found = []
+    for place in word:
+        stand, cups = one_drop(board, stand, mouths[place])
+        found.append(cups)
+    return tuple(found)
+
+
+def all_words(mouths, most):
+    """All words of up to so many drops, short ones first, of as short ones the least first."""
+    for many in range(most + 1):
+        yield from itertools.product(range(mouths), repeat=many)
+
+
 def turn_sums(board, wheel):
     """For each wheel and each cup how often it is an end of a whole turn of the wheel."""
     wheels, cups = board
@@ -283,6 +305,10 @@ def one_number(board):
 
 # Things of any kind, and such that are like those that are told.
 ANYTHING = WRONG + (
+    "alike", "apart", ("alike",), ("apart",), ("alike", ()), ("apart", ()), ("alike", 0), ("apart", 0), ("apart", [0]),
+    ("alike", [((0,), (0,))]), ("apart", "0"), "lame", ("lame",), ("lame", 0), ("lame", 9, 0), ("blocked",),
+    ("blocked", 9), ("blocked", True), ("blocked", None), ("off",), ("off", 0), ("off", 0, 9), ("off", None, None),
+    ("lame", True, True), ("off", True, True), ["lame", 0, 0], ["blocked", 0], ("lame", [0], {}), {"off": (0, 1)},
     0, 1, (), ((),), ((), ()), ((), (), ()), "rests", "never", "drains", "keeps", "drops", "closed",
     ("rests",), ("never",), ("drains",), ("keeps",), ("drops",), ("closed",), ("rests", (), ()), ("never", (), ()),
     ("never", (), None), ("never", 0, 0), ("rests", 0, 0), ("drains", 1), ("keeps", 1), ("drops", 0), ("closed", ()),
