@@ -54,6 +54,12 @@ def gone_down(board, moment, nevers):
     return tuple(counts), fastened(stand, waiting, held)
 
 
+def settled(board, moment):
+    """(counts, moment) at rest; None where the moment never rests."""
+    counts, last = gone_down(board, moment, never_counts(board))
+    return (counts, last) if max(last[1]) == 0 else None
+
+
 def row_to(board, moment, counts, needed):
     """A row, let from the moment, in which each wheel stands as often as needed; counts: those of some such row."""
     stand, waiting, held = loosened(moment)
@@ -98,7 +104,7 @@ def shows_rest(board, moment, counts, last):
     """Whether these are the counts to rest and the moment there, of anything."""
     if not are_marbles(counts, len(board[0])) or not is_moment(board, last):
         return False
-    return max(last[1]) == 0 and gone_down(board, moment, never_counts(board)) == (counts, last)
+    return settled(board, moment) == (counts, last)
 
 
 def shows_never(board, moment, ahead, again):

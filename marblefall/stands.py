@@ -50,7 +50,7 @@ def begun(board, stand, wheel):
 
 
 def together(some, others):
-    """What each cup got, when it got both."""
+    """The numbers of both, place by place, together."""
     return tuple([one + other for one, other in zip(some, others)])
 
 

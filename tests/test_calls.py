@@ -5,7 +5,7 @@ import inspect
 import itertools
 import unittest
 
-from marblefall import boards, drains, faults, joins, moments, rest, shares, stands, tellers
+from marblefall import boards, drains, faults, joins, moments, rest, shares, stands, tellers, texts
 from marblefall.errors import MarbleError
 from tests.things import ANYTHING, EVER, HALVES, MIXED, TURNS, WALK
 
@@ -63,6 +63,8 @@ CALLS = {
     )),
     faults.fitting: (("teller", "word", "seen"), (TELLER, (0, 1), ((0, 0), (0, 1))), (("lame", 0, 0), ("blocked", 3))),
     faults.parting: (("teller", "one", "other"), (TELLER, None, ("off", 1, 0)), ("apart", (0, 1))),
+    texts.board_text: (("board",), (HALVES,), "cups 1\nwheel - 1\nwheel - 2\nwheel - 3\n"),
+    texts.read_board: (("text",), ("cups 1\nwheel - 1\nwheel - 2\nwheel - 3\n",), HALVES),
 }
 
 

@@ -121,6 +121,27 @@ class LanguageTest(unittest.TestCase):
                     if isinstance(sign, (ast.Is, ast.IsNot)):
                         self.assertIn(getattr(right, "value", 0), (None, True, False), (file, node.lineno))
 
+    def test_iterated_at_once(self):
+        for file in FILES:
+            self.assertEqual(nodes(file, ast.GeneratorExp), [], file)
+            for node in nodes(file, ast.Assign, ast.AugAssign, ast.Return):
+                called = getattr(getattr(node.value, "func", None), "id", None)
+                self.assertNotIn(called, ("range", "zip", "enumerate", "reversed", "set"), (file, node.lineno))
+
+    def test_methods_and_attributes(self):
+        classes = [node for file in FILES for node in nodes(file, ast.ClassDef)]
+        methods = {each.name for node in classes for each in node.body if isinstance(each, ast.FunctionDef)}
+        found = [node for file in FILES for node in nodes(file, ast.Attribute)]
+        given = {node.attr for node in found if isinstance(node.ctx, ast.Store)}
+        self.assertEqual(methods & given, set())
+        self.assertLessEqual({node.attr for node in found} - METHODS, methods | given)
+
+    def test_no_errors_of_python_are_caught(self):
+        own = {node.name for node in nodes(PACKAGE / "errors.py", ast.ClassDef)}
+        for file in FILES:
+            for node in nodes(file, ast.ExceptHandler):
+                self.assertIn(getattr(node.type, "id", None), own, (file, node.lineno))
+
 
 if __name__ == "__main__":
     unittest.main()

@@ -6,10 +6,11 @@ import unittest
 from marblefall.boards import is_moment, is_stand
 from marblefall.drains import drain_of, is_drain, never_moment
 from marblefall.errors import (
-    MarbleError, NoAgain, NoBoard, NoDrain, NoDrops, NoFault, NoLinks, NoMoment, NoMouths, NoNumber, NoRow, NoSeen,
-    NoStand, NotAlike, NotNow, NoWheel, NoWord, TooMany,
+    MarbleError, NoAgain, NoBoard, NoDrain, NoDrops, NoFault, NoHands, NoLinks, NoMoment, NoMouths, NoNumber, NoRow,
+    NoSeen, NoStand, NotAlike, NotNow, NoWheel, NoWord, TooMany,
 )
 from marblefall.faults import all_faults, fitting, is_fault, parting, with_fault
+from marblefall.hands import beats, rows_of
 from marblefall.joins import joined
 from marblefall.moments import behind, counts_of, first_wrong, handled, is_let, rests
 from marblefall.rest import end_of, is_end, is_enough
@@ -18,6 +19,8 @@ from marblefall.stands import (
     all_again, back, dropped, how_many, is_again, least_drops, led_far, round_of, shows_drops,
 )
 from marblefall.tellers import parted, shows_parted, told
+from marblefall.texts import board_text
+from marblefall.works import Works
 from tests.things import DRAINING, KEEPING, MIXED, STANDS_648, TURNS, WALK, WRONG, moment
 
 NOW = ((3, 1, 0), (2, 1, 0), (5, 5))
@@ -52,6 +55,8 @@ NO_DRAIN = ("board", NoDrain, (KEEPS,))
 NO_STAND = ("stand", NoStand, BAD_STANDS)
 NO_WHEEL = ("wheel", NoWheel, BAD_WHEELS)
 
+BAD_ROW_NUMBERS = tuple(thing for thing in WRONG if thing != 6) + (501, (), (0,), [5], "5", {5: 5})
+BAD_HANDS = tuple(thing for thing in WRONG if thing != 6) + (0, 7, (), (1,), [1], "1", {1: 1})
 BAD_LINKS = WRONG + (
     (), [0, None, 2], (0, None), (0, None, 2, 0), (4, None, 0), (-1, None, 0), (True, None, 0), (None, None, False),
     ((0,), None, 0), ("0", None, 0),
@@ -174,6 +179,13 @@ REFUSALS = {
         of_teller("teller") + [("one", NoFault, BAD_FAULTS), ("other", NoFault, BAD_FAULTS)],
         {"teller": TELLER, "one": ("off", 0, 1), "other": None},
     ),
+    beats: ([NO_BOARD, NO_MOMENT, ("hands", NoHands, BAD_HANDS)], {"board": MIXED, "moment": NOW, "hands": 2}),
+    rows_of: (
+        [NO_BOARD, NO_MOMENT, ("many", NoNumber, BAD_ROW_NUMBERS), ("hands", NoHands, BAD_HANDS)],
+        {"board": MIXED, "moment": NOW, "many": 9, "hands": 2},
+    ),
+    Works: ([NO_BOARD, NO_STAND], {"board": WALK, "stand": (0, 1, 0)}),
+    board_text: ([NO_BOARD], {"board": MIXED}),
 }
 
 # The same for a board of more than 600 stands.

@@ -120,6 +120,27 @@ def all_waiting(board, many):
     return moment(board, (many,) * len(board[0]))
 
 
+# Moments that never rest: of a wheel that is its own end at every step, of two in a ring, of doublers and others.
+NEVERS = (
+    (ROUND, moment(ROUND, (1,))),
+    (ROUND, moment(ROUND, (1000,))),
+    (((((0,), (0,), (0,), (0,)),), 0), ((2,), (1,), ())),
+    (RING, moment(RING, (1, 0))),
+    (RING, moment(RING, (0, 7))),
+    (DOUBLER, moment(DOUBLER, (1,))),
+    (DOUBLER, moment(DOUBLER, (1000,))),
+    (((((1, 1),), ((0, 0, 2),)), 1), ((0, 0), (0, 1), (5,))),
+    (EVER, moment(EVER, (1, 0))),
+    (EVER, ((1, 0), (0, 3), (2,))),
+    (TREBLER, ((1,), (1,), (0,))),
+    (TREBLER, ((0,), (2,), (0,))),
+    (MIXED, moment(MIXED, (9, 9, 9))),
+    (MOST, moment(MOST, (1, 1, 1, 1, 1, 1))),
+    # The marble must go down a chain of wheels first, of which each lets one in two on.
+    (((((), (1,)), ((), (2,)), ((), (3,)), ((3,),)), 0), moment(((0,) * 4, 0), (8, 0, 0, 0))),
+)
+
+
 def tuple_paths(thing):
     """The paths to all tuples in the thing, that to itself, (), among them."""
     if not isinstance(thing, tuple):
